@@ -102,6 +102,15 @@ class Disc:
         thing = self._things[node]
         return (thing.where, thing.kind, thing.text, thing.moment)
 
+    def held(self, node):
+        """The nodes to which the names in a node on the disc lead, ascending."""
+        return tuple(sorted(self._things[node].inside.values()))
+
+    def room(self):
+        """The nodes that lie in the ROOM themselves, ascending."""
+        away = [node for node in sorted(self._things) if self._things[node].where is None]
+        return tuple([node for node in away if node != ROOT])
+
     @property
     def next(self):
         return self._next

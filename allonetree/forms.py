@@ -100,3 +100,30 @@ def is_write(rest):
 
 def is_gone(rest):
     return len(rest) == 2 and is_dot(rest[0]) and is_covers(rest[1])
+
+
+def is_heard(value):
+    if not isinstance(value, tuple) or not all([is_deed(deed) for deed in value]):
+        return False
+    return all([is_next(ahead, deed) for ahead, deed in zip((None,) + value, value)])
+
+
+def is_next(ahead, deed):
+    """Whether the deed can stand behind the one ahead of it (None: first) in a HEARD."""
+    life, number = deed[1]
+    if ahead is None or ahead[1][0] < life:
+        return number == 0
+    return ahead[1] == (life, number - 1) and ahead[2] < deed[2]
+
+
+def is_vector(value):
+    if not isinstance(value, tuple) or not all([is_count(row) for row in value]):
+        return False
+    return all([one[0] < other[0] for one, other in zip(value, value[1:])])
+
+
+def is_count(value):
+    """Whether this tells of one LIFE how many of its DEEDS there are."""
+    if not isinstance(value, tuple) or len(value) != 2:
+        return False
+    return is_life(value[0]) and is_from(value[1], 1)

@@ -3,7 +3,7 @@ import inspect
 import pathlib
 import unittest
 
-from allonetree import deeds, discs, errors
+from allonetree import books, deeds, discs, errors, hearing, living, looking, moving, pictures, placing, telling
 from allonetree.discs import Disc
 
 FOLDER = pathlib.Path(inspect.getfile(errors)).parent
@@ -13,29 +13,76 @@ def parameters(call):
     return tuple(inspect.signature(call).parameters)
 
 
+# Each function and class of the interface that was built so far, by the file that has it.
+PARAMETERS = {
+    discs: {"Disc": ()},
+    deeds: {"deed_text": ("deed",), "read_deed": ("text",)},
+    hearing: {
+        "hears": ("heard", "deed"),
+        "joined": ("one", "other"),
+        "lacks": ("heard", "vector"),
+        "stamp_of": ("heard",),
+        "vector": ("heard",),
+    },
+    moving: {"chain": ("heard", "item"), "is_out": ("heard", "dot"), "Moves": (), "places": ("heard",)},
+    living: {"clashes": ("heard",), "live": ("heard", "item"), "stands": ("heard",)},
+    pictures: {"entries": ("heard",), "picture": ("heard",)},
+    looking: {"Look": ("disc",)},
+    telling: {"known_behind": ("known", "changes"), "told": ("heard", "life", "known", "standing")},
+    placing: {
+        "due": ("heard", "known", "disc", "tried"),
+        "left": ("heard", "known", "disc"),
+        "row_behind": ("heard", "known", "act", "node"),
+        "shows": ("heard", "key"),
+    },
+    books: {"book_line": ("booked",), "mending": ("disc",), "read_book": ("disc",)},
+}
+
+METHODS = {
+    discs.Disc: {
+        "do": ("act",),
+        "make": ("kind", "text"),
+        "shift": ("node", "place", "goal"),
+        "drop": ("node",),
+        "note": ("line",),
+        "rows": (),
+        "nodes": (),
+        "spot": ("node",),
+        "copy": (),
+    },
+    moving.Moves: {"added": ("deed",)},
+    looking.Look: {"step": ()},
+}
+
+TOLD = {discs.Disc: ("next", "book"), moving.Moves: ("places", "many"), looking.Look: ("standing", "read")}
+
+
+def made(kind):
+    return looking.Look(Disc()) if kind is looking.Look else kind()
+
+
 class Interface(unittest.TestCase):
     def test_functions_take_the_parameters_that_the_document_names(self):
-        self.assertEqual(parameters(deeds.deed_text), ("deed",))
-        self.assertEqual(parameters(deeds.read_deed), ("text",))
-        self.assertEqual(parameters(Disc), ())
-
-    def test_methods_take_the_parameters_that_the_document_names(self):
-        told = {"do": ("act",), "make": ("kind", "text"), "shift": ("node", "place", "goal"), "drop": ("node",)}
-        told.update({"note": ("line",), "rows": (), "nodes": (), "spot": ("node",), "copy": ()})
-        for name in told:
-            self.assertIn(name, vars(Disc))
-            self.assertEqual(parameters(getattr(Disc(), name)), told[name], name)
-
-    def test_what_is_told_of_an_object_stands_in_its_class(self):
-        for name in ("next", "book", "__eq__"):
-            self.assertIn(name, vars(Disc))
+        for module, told in PARAMETERS.items():
+            for name in told:
+                self.assertEqual(parameters(getattr(module, name)), told[name], name)
 
     def test_all_is_defined_in_the_file_of_its_module(self):
-        for call in (discs.Disc, deeds.deed_text, deeds.read_deed):
-            self.assertEqual(inspect.getmodule(call).__name__, call.__module__)
-        self.assertEqual(discs.Disc.__module__, "allonetree.discs")
-        self.assertEqual(deeds.deed_text.__module__, "allonetree.deeds")
-        self.assertEqual(deeds.read_deed.__module__, "allonetree.deeds")
+        for module, told in PARAMETERS.items():
+            for name in told:
+                self.assertEqual(getattr(module, name).__module__, module.__name__)
+
+    def test_methods_take_the_parameters_that_the_document_names(self):
+        for kind, told in METHODS.items():
+            for name in told:
+                self.assertIn(name, vars(kind))
+                self.assertEqual(parameters(getattr(made(kind), name)), told[name], name)
+        self.assertIn("__eq__", vars(Disc))
+
+    def test_what_is_told_of_an_object_is_there_when_it_is_created(self):
+        for kind, names in TOLD.items():
+            for name in names:
+                self.assertTrue(hasattr(made(kind), name), name)
 
     def test_arguments_by_name(self):
         disc = Disc()
@@ -47,6 +94,41 @@ class Interface(unittest.TestCase):
         self.assertIsNone(disc.note(line="a line"))
         gone = ("gone", (1, 2), 3, (1, 0), ())
         self.assertEqual(deeds.read_deed(text=deeds.deed_text(deed=gone)), gone)
+
+    def test_deeds_by_name(self):
+        born = ("born", (1, 0), 1, "folder", None, "a", "")
+        heard = hearing.hears(deed=born, heard=())
+        self.assertEqual(heard, (born,))
+        self.assertEqual(hearing.vector(heard=heard), ((1, 1),))
+        self.assertEqual(hearing.lacks(vector=(), heard=heard), heard)
+        self.assertEqual(hearing.joined(other=(), one=heard), heard)
+        self.assertEqual(hearing.stamp_of(heard=heard), 2)
+        self.assertEqual(moving.places(heard=heard), (((1, 0), None, "a"),))
+        self.assertIs(moving.is_out(dot=(1, 0), heard=heard), False)
+        self.assertEqual(moving.chain(item=(1, 0), heard=heard), ((1, 0),))
+        self.assertEqual(moving.Moves().added(deed=born), 0)
+        self.assertEqual(living.live(item=(1, 0), heard=heard), ((1, 0),))
+        self.assertEqual(living.stands(heard=heard), ((1, 0),))
+        self.assertEqual(living.clashes(heard=heard), ())
+        self.assertEqual(pictures.entries(heard=heard), ((("item", (1, 0)), None, "a", "folder", ""),))
+        self.assertEqual(pictures.picture(heard=heard), (("a", "folder", ""),))
+
+    def test_keepers_work_by_name(self):
+        born = ("born", (1, 0), 1, "folder", None, "a", "")
+        key, disc = ("item", (1, 0)), Disc()
+        self.assertEqual(looking.Look(disc=disc).step(), "on")
+        told = telling.told(standing=((1, (0, "a"), "folder", ""),), known=(), life=1, heard=())
+        row = (1, key, (0, "a"), None, ((1, 0),))
+        self.assertEqual(told, ((born, ((1, row),)),))
+        self.assertEqual(telling.known_behind(changes=told[0][1], known=()), (row,))
+        self.assertEqual(placing.shows(key=key, heard=(born,)), (None, ((1, 0),)))
+        self.assertEqual(placing.due(tried=(), disc=disc, known=(), heard=(born,)), ("make", key, "folder", ""))
+        self.assertEqual(placing.left(disc=disc, known=(), heard=(born,)), (0, 2))
+        made_row = placing.row_behind(node=1, act=("make", key, "folder", ""), known=(), heard=(born,))
+        self.assertEqual(made_row, (1, key, None, None, ((1, 0),)))
+        self.assertEqual(books.book_line(booked=("life", 1)), "life 1")
+        self.assertEqual(books.read_book(disc=disc), ((), (), None))
+        self.assertIsNone(books.mending(disc=disc))
 
 
 class Form(unittest.TestCase):

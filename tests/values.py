@@ -1,6 +1,8 @@
 """Values of all kinds, and what a call raises, for all tests."""
 
 from allonetree.discs import Disc
+from allonetree.looking import Look
+from allonetree.moving import Moves
 
 
 def nested(deep):
@@ -48,9 +50,27 @@ def any_values():
         Disc(),
         (Disc(),),
         [Disc(), (None, {})],
+        Moves(),
+        (Moves(), Look(Disc())),
         nested(60),
         [nested(59)],
     ]
+
+
+def bends(value):
+    """The value with one part of it, or all of it, put otherwise; most of these are of no good form."""
+    if isinstance(value, tuple):
+        found = [list(value), value[:-1], value[1:], value[::-1], value + value[-1:], value + (None,), (value,), None]
+        for at, part in enumerate(value):
+            found.extend([value[:at] + (bent,) + value[at + 1 :] for bent in bends(part)])
+        return found
+    if value is None:
+        return [0, False, "", "root", (), (1, 0), [1, 0]]
+    if isinstance(value, str):
+        return [value + " ", value + "\n", value + "/", "", ".", None, 1, (value,), [value], value.upper()]
+    if isinstance(value, int):
+        return [value == 1, str(value), None, -1, 0, value + 1, 10**6 + value, (value,), [value]]
+    return [(value,), [value], {0: value}, None]
 
 
 def raised(error, call, *values, **named):

@@ -1,0 +1,21 @@
+"""Raises the error that is named for what many functions are handed."""
+
+from allonetree.discs import Disc
+from allonetree.errors import BadHeard, BadKnown, NoDisc
+from allonetree.forms import is_heard
+from allonetree.rows import is_known
+
+
+def check_heard(heard):
+    if not is_heard(heard):
+        raise BadHeard(heard)
+
+
+def check_known(known):
+    if not is_known(known):
+        raise BadKnown(known)
+
+
+def check_disc(disc):
+    if not isinstance(disc, Disc):
+        raise NoDisc(disc)
