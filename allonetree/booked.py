@@ -67,25 +67,25 @@ def read_line(line):
 # something that has no place in a BOOKED: so is_booked alone judges the whole.
 
 
-def read_one_number(rest):
+def read_number_line(rest):
     return (read_number(rest),)
 
 
-def read_heard(rest):
+def read_heard_line(rest):
     return (read_told_deed(rest),)
 
 
-def read_told(rest):
+def read_told_line(rest):
     # No word of CHANGES has the sign that parts them from the DEED; its TEXT may.
     changes, _, deed = rest.partition(" | ")
     return (read_changes(changes), read_told_deed(deed))
 
 
-def read_rows(rest):
+def read_rows_line(rest):
     return (read_changes(rest),)
 
 
-def read_shift(rest):
+def read_shift_line(rest):
     return (read_row(rest),)
 
 
@@ -107,10 +107,10 @@ def read_change(text):
 
 def read_row(text):
     words = text.split(" ")
-    # Behind the node stands the KEY, and behind this the place, each by two words or three.
+    # Behind the node the KEY has two words or three, and behind it the place one or three.
     at = 4 if words[1:2] == ["beside"] else 3
     key = tuple(words[1:2] + [read_dot(word) for word in words[2:at]])
-    behind = at + (1 if words[at:at + 1] == ["room"] else 3)
+    behind = at + (1 if words[at : at + 1] == ["room"] else 3)
     if len(words) != behind + 2:
         # None would tell that the node has no ROW.
         return ()
@@ -126,11 +126,11 @@ def read_place(words):
 
 
 READERS = {
-    "life": read_one_number,
-    "heard": read_heard,
-    "told": read_told,
-    "rows": read_rows,
-    "shift": read_shift,
-    "done": read_one_number,
-    "not": read_one_number,
+    "life": read_number_line,
+    "heard": read_heard_line,
+    "told": read_told_line,
+    "rows": read_rows_line,
+    "shift": read_shift_line,
+    "done": read_number_line,
+    "not": read_number_line,
 }

@@ -103,14 +103,14 @@ class Wanted:
 class StillNode:
     """A node that is on the disc where its ROW tells."""
 
-    def __init__(self, row, spot):
+    def __init__(self, row, spot, told_text, entry, goal):
         self.node, self.key, self.where, self.write, self.dots = row
         self.kind, self.text = spot[1], spot[2]
-        # Its KEY's ENTRY, and the place that it tells; None where there is none.
-        self.entry = None
-        self.goal = None
         # Whether it is a file whose TEXT isn't that of its write.
-        self.is_untold = False
+        self.is_untold = self.kind == "file" and self.text != told_text
+        # Its KEY's ENTRY, and the place that this tells; None where there is none.
+        self.entry = entry
+        self.goal = goal
 
     def has_text(self):
         """Whether its KEY is wanted with the TEXT that it has."""
@@ -126,12 +126,7 @@ class Plan:
         # Of the nodes of one KEY the least one counts: it is kept last.
         self._node_of = {row[1]: row[0] for row in reversed(known)}
         entry_of = {entry[0]: entry for entry in self._wanted.entries}
-        self.still = [StillNode(row, disc.spot(row[0])) for row in known if is_still(row, disc)]
-        for one in self.still:
-            text = self._wanted.texts.get((one.key[1], one.write))
-            one.is_untold = one.kind == "file" and one.text != text
-            one.entry = entry_of.get(one.key)
-            one.goal = self._goal_of(one.entry)
+        self.still = [self._still_node(row, entry_of.get(row[1])) for row in known if is_still(row, disc)]
 
     def clear_room(self):
         for one in self.still:
@@ -191,6 +186,10 @@ class Plan:
         if one.where is None or one.where != one.goal or not one.has_text():
             return False
         return (one.write, one.dots) != self._wanted.shown(one.key)
+
+    def _still_node(self, row, entry):
+        told_text = self._wanted.texts.get((row[1][1], row[3]))
+        return StillNode(row, self._on.spot(row[0]), told_text, entry, self._goal_of(entry))
 
     def _goal_of(self, entry):
         if entry is None:

@@ -162,8 +162,6 @@ class Teller:
 
     def _tell(self, word, rest, changes):
         deed = (word, self._dot(), self._stamp) + rest
-        if word == "born":
-            self._kinds[deed[1]] = deed[3]
         if word == "write":
             self._writes[deed[1]] = deed[3:5]
         self._number += 1

@@ -187,6 +187,9 @@ class Hears(unittest.TestCase):
         for stamp in (1, 4, 5):
             deed = ("gone", (2, 2), stamp, (2, 0), ())
             self.assertIs(raised(BadDeed, hears, HEARD, deed), deed)
+        for stamp in (1, 2, 3):
+            deed = ("gone", (2, 1), stamp, (2, 0), ())
+            self.assertIs(raised(BadDeed, hears, (FOLDER,), deed), deed)
         deed = ("gone", (2, 2), 6, (2, 0), ())
         self.assertEqual(hears(HEARD, deed), (FOLDER, FILE, deed, LINK, WRITE, PUT, GONE))
         # Another LIFE has its own stamps.

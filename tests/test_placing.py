@@ -528,6 +528,8 @@ class Rows(unittest.TestCase):
             ("shift", 2, (1, "a")),
             ("make", F_KEY, "folder", "x"),
             ("make", A_KEY, "file"),
+            ("make", A_KEY),
+            ("make", F_KEY),
             ("make", 2, "file", ""),
             ("make", A_KEY, "dir", ""),
             ["drop", 2],

@@ -293,6 +293,14 @@ class Told(unittest.TestCase):
         standing = stood((9, None, "folder", ""), (10, (9, "x"), "file", "new"), (11, (9, "y"), "folder", ""), (12, (11, "z"), "link", ""))
         self.tells(standing)
 
+    def test_what_is_known_in_unknown_nodes_of_the_room_is_passed_over_too(self):
+        row = (2, ("item", FILE), (1, "a"), (5, 6), (FILE,))
+        for rest in (((2, (1, "b"), "file", "one"),), ((2, (1, "b"), "file", "new"), (10, (1, "n"), "link", ""))):
+            standing = stood((9, None, "folder", ""), (1, (9, "f"), "folder", ""), *rest)
+            # Its text is told all the same, wherever it lies.
+            steps = [(("write", FILE, "new", ((5, 2),)), ((2, row),))] if rest[1:] else []
+            self.tells(standing, *steps)
+
     def test_what_is_in_known_nodes_of_the_room(self):
         # f lies in the ROOM; a is called b there, a new folder came into it, and a link into this one.
         standing = stood((1, None, "folder", ""), (2, (1, "b"), "file", "one"), (9, (1, "n"), "folder", ""), (5, (9, "l"), "link", "to"))
@@ -385,6 +393,23 @@ class Told(unittest.TestCase):
         )
         ahead = (5, ("item", LINK), (0, "l"), None, ())
         self.tells(stood(gone=(5,)), (("gone", LINK, ()), ((5, None),)), known=known(ahead))
+
+    def test_gone_of_what_was_known_in_the_room(self):
+        ahead = (4, ("item", OTHER), None, (5, 4), (OTHER,))
+        born = (9, ("item", (5, 6)), (0, "o"), None, ((5, 6),))
+        wrote = (9, ("item", (5, 6)), (0, "o"), (5, 7), ((5, 6),))
+        self.tells(
+            stood((9, (0, "o"), "file", "t"), gone=(4,)),
+            (("born", "file", None, "o", ""), ((9, born),)),
+            (("write", (5, 6), "t", ()), ((9, wrote),)),
+            (("gone", OTHER, ((5, 4),)), ((4, None),)),
+            known=known(ahead),
+        )
+
+    def test_gone_of_one_beside_whose_item_is_not_born_here(self):
+        heard = (("write", (2, 0), 6, (9, 9), "t", ()),)
+        rows = ((1, ("beside", (9, 9), (2, 0)), (0, "x"), (2, 0), ()),)
+        self.assertEqual(told(heard, 5, rows, ()), ((("gone", (5, 0), 7, (9, 9), ((2, 0),)), ((1, None),)),))
 
     def test_gone_of_a_files_row_without_a_write(self):
         ahead = (2, ("item", FILE), (1, "a"), None, (FILE,))
