@@ -67,9 +67,8 @@ def standing_of(lives, spots):
     """The ITEMS of which something lives, and all above those that are placed."""
     found = {}
     for item in lives:
-        if lives[item]:
-            found[item] = True
-            while item in spots and spots[item][0] is not None:
-                item = spots[item][0]
-                found[item] = True
+        above = item if lives[item] else None
+        while above is not None:
+            found[above] = True
+            above = spots[above][0] if above in spots else None
     return found
