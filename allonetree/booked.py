@@ -1,7 +1,6 @@
 """What a line of a book can tell, as a tuple and as the line."""
 
-from allonetree.deeds import deed_text, dot_text, dots_text, read_deed, read_dot, read_dots, read_number
-from allonetree.errors import BadText
+from allonetree.deeds import deed_in, deed_text, dot_text, dots_text, read_dot, read_dots, read_number
 from allonetree.forms import is_deed, is_life
 from allonetree.rows import is_changes, is_node, is_row
 
@@ -72,13 +71,13 @@ def read_number_line(rest):
 
 
 def read_heard_line(rest):
-    return (read_told_deed(rest),)
+    return (deed_in(rest),)
 
 
 def read_told_line(rest):
     # No word of CHANGES has the sign that parts them from the DEED; its TEXT may.
     changes, _, deed = rest.partition(" | ")
-    return (read_changes(changes), read_told_deed(deed))
+    return (read_changes(changes), deed_in(deed))
 
 
 def read_rows_line(rest):
@@ -87,13 +86,6 @@ def read_rows_line(rest):
 
 def read_shift_line(rest):
     return (read_row(rest),)
-
-
-def read_told_deed(text):
-    try:
-        return read_deed(text)
-    except BadText:
-        return None
 
 
 def read_changes(text):

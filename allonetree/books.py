@@ -18,18 +18,28 @@ def book_line(booked):
 def read_book(disc):
     """(HEARD, KNOWN, the ROW of a shift that is open or None) behind all lines."""
     check_disc(disc)
+    return reader_of(disc).all_told()
+
+
+def mending(disc):
+    """The next small step at a start, None if there is none."""
+    _, known, shift = read_book(disc)
+    return mending_of(known, shift, disc)
+
+
+def reader_of(disc):
+    """What all lines of the disc's book tell."""
     reader = BookReader()
     for number, line in enumerate(disc.book, start=1):
         booked = read_line(line)
         if booked is None or not reader.can_take(booked):
             raise BadBook(number)
         reader.take_in(booked)
-    return reader.all_told()
+    return reader
 
 
-def mending(disc):
-    """The next small step at a start, None if there is none."""
-    _, known, shift = read_book(disc)
+def mending_of(known, shift, disc):
+    """What mending tells by what is known, and by the ROW of an open shift (None: none is)."""
     if shift is not None:
         word = "done" if is_still(shift, disc) else "not"
         return ("line", line_of((word, shift[0])))
@@ -44,6 +54,8 @@ class BookReader:
     """What the lines so far tell."""
 
     def __init__(self):
+        # The LIVES with which keepers started.
+        self.lives = {}
         self._deeds = {}
         # How many DEEDS of each LIFE there are, and the stamp of the last one.
         self._last = {}
@@ -66,6 +78,8 @@ class BookReader:
 
     def take_in(self, booked):
         word, worth = booked[0], booked[1]
+        if word == "life":
+            self.lives[worth] = True
         if word in ("told", "rows"):
             change_rows(self._row_of, worth)
         if word in ("told", "heard"):

@@ -17,15 +17,19 @@ def deed_text(deed):
 
 def read_deed(text):
     """The deed that the line tells."""
-    if not isinstance(text, str):
-        raise BadText(text)
-    reader = READERS.get(text.partition(" ")[0])
-    if reader is None:
-        raise BadText(text)
-    deed = reader(text)
-    if not is_deed(deed):
+    deed = deed_in(text) if isinstance(text, str) else None
+    if deed is None:
         raise BadText(text)
     return deed
+
+
+def deed_in(line):
+    """The deed that the line tells, None if it tells none."""
+    reader = READERS.get(line.partition(" ")[0])
+    if reader is None:
+        return None
+    deed = reader(line)
+    return deed if is_deed(deed) else None
 
 
 def words_behind(deed):

@@ -38,18 +38,32 @@ def hears(heard, deed):
     if not is_deed(deed):
         raise BadDeed(deed)
     deeds = by_dot(heard)
-    life, number = deed[1]
+    check_hears(deeds, counts(heard), deed)
     if deed[1] in deeds:
-        if deeds[deed[1]] != deed:
-            raise Unlike(deed[1])
         return heard
-    many = counts(heard).get(life, 0)
-    if number > many:
-        raise Early((life, many))
-    if number > 0 and deeds[(life, number - 1)][2] >= deed[2]:
+    return heard_with(heard, deed)
+
+
+def check_hears(deeds, many, deed):
+    """Raises why a DEED is not the next one of its LIFE, if it isn't one of these, by their DOTS."""
+    life, number = deed[1]
+    if deeds.get(deed[1], deed) != deed:
+        raise Unlike(deed[1])
+    if number > many.get(life, 0):
+        raise Early((life, many.get(life, 0)))
+    if not is_above(deeds, deed):
         raise BadDeed(deed)
-    deeds[deed[1]] = deed
-    return ascending(deeds)
+
+
+def is_above(deeds, deed):
+    """Whether the stamp is above that of the DEED ahead in its LIFE, which is among these."""
+    life, number = deed[1]
+    return number == 0 or deeds[(life, number - 1)][2] < deed[2]
+
+
+def heard_with(heard, deed):
+    """The HEARD with one DEED more, that can stand there."""
+    return tuple(sorted(heard + (deed,), key=lambda one: one[1]))
 
 
 def stamp_of(heard):

@@ -33,6 +33,13 @@ class Look:
         self._read += 1
         return self._word
 
+    def twin(self, disc):
+        """A look that stands as this one, at a copy of its disc."""
+        other = Look(disc)
+        other._waiting, other._seen = list(self._waiting), list(self._seen)
+        other._read, other._word, other._standing = self._read, self._word, self._standing
+        return other
+
     @property
     def standing(self):
         return self._standing

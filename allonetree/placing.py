@@ -25,7 +25,11 @@ def due(heard, known, disc, tried):
     check_disc(disc)
     if not is_tried(tried):
         raise BadTried(tried)
-    plan = Plan(heard, known, disc)
+    return due_of(Wanted(heard), known, disc, tried)
+
+
+def due_of(wanted, known, disc, tried):
+    plan = Plan(wanted, known, disc)
     act = plan.clear_room()
     if act is None:
         act = plan.take_out(tried)
@@ -45,14 +49,18 @@ def row_behind(heard, known, act, node):
         raise BadAct(act)
     if not is_node(node) or (act[0] != "make" and node != act[1]):
         raise BadNode(node)
+    return row_of(Wanted(heard), rows, act, node)
+
+
+def row_of(wanted, rows, act, node):
     if act[0] == "drop":
         return None
     if act[0] == "make":
-        return (node, act[1], None) + Wanted(heard).shown(act[1])
+        return (node, act[1], None) + wanted.shown(act[1])
     _, key, place, write, shown = rows[node]
     if act[0] == "shift" and act[3] is None:
         return (node, key, None, write, shown)
-    return (node, key, place if act[0] == "show" else act[3]) + Wanted(heard).shown(key)
+    return (node, key, place if act[0] == "show" else act[3]) + wanted.shown(key)
 
 
 def left(heard, known, disc):
@@ -60,7 +68,7 @@ def left(heard, known, disc):
     check_heard(heard)
     check_known(known)
     check_disc(disc)
-    plan = Plan(heard, known, disc)
+    plan = Plan(Wanted(heard), known, disc)
     away = [one for one in plan.still if one.where is None and one.is_untold]
     costs = [plan.cost_of(one) for one in plan.still if one.where is not None or not one.is_untold]
     return (len(away), 2 * len(plan.lacking()) + sum(costs))
@@ -118,10 +126,10 @@ class StillNode:
 
 
 class Plan:
-    """What there is to do on a disc, by what is heard and known."""
+    """What there is to do on a disc, by what is wanted and known."""
 
-    def __init__(self, heard, known, disc):
-        self._wanted = Wanted(heard)
+    def __init__(self, wanted, known, disc):
+        self._wanted = wanted
         self._on = disc
         # Of the nodes of one KEY the least one counts: it is kept last.
         self._node_of = {row[1]: row[0] for row in reversed(known)}

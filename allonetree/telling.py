@@ -1,9 +1,9 @@
 """What programs did, told from what was known and what stands."""
 
-from allonetree.checks import check_heard, check_known
+from allonetree.checks import check_heard, check_known, check_life
 from allonetree.discs import ROOT
-from allonetree.errors import BadChanges, BadLife, BadStanding
-from allonetree.forms import is_life, small
+from allonetree.errors import BadChanges, BadStanding
+from allonetree.forms import small
 from allonetree.hearing import counts, next_stamp
 from allonetree.living import kinds_of
 from allonetree.rows import is_changes, is_standing
@@ -12,11 +12,14 @@ from allonetree.rows import is_changes, is_standing
 def told(heard, life, known, standing):
     """(DEED or None, changes of KNOWN) for all that was done, in sequence."""
     check_heard(heard)
-    if not is_life(life):
-        raise BadLife(life)
+    check_life(life)
     check_known(known)
     if not is_standing(standing):
         raise BadStanding(standing)
+    return told_of(heard, life, known, standing)
+
+
+def told_of(heard, life, known, standing):
     teller = Teller(heard, life, known, standing)
     for node in teller.places_to_tell():
         teller.tell_place(node)

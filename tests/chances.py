@@ -46,6 +46,36 @@ def wild(chance, lives=3, many=14):
     return tuple(sorted(deeds, key=lambda deed: deed[1]))
 
 
+def sensible(chance, lives=3, many=30):
+    """A HEARD as keepers tell: what a DEED tells of was born ahead of it."""
+    numbers, stamps, deeds, items = {}, {}, [], []
+    while len(deeds) < many:
+        life = chance.randint(1, lives)
+        dot = (life, numbers.get(life, 0))
+        # Stamps are above all that was heard: not all of it is, everywhere.
+        stamp = max([stamps.get(life, 0)] + [deed[2] for deed in deeds[-3:]]) + chance.choice((0, 1, 1))
+        stamp = max(stamp, stamps.get(life, 0) + 1)
+        parent = chance.choice([None] + [item for item, kind in items if kind == "folder"])
+        if chance.random() < 0.25 or not items:
+            kind = chance.choice(("folder", "file", "file", "link"))
+            deed = ("born", dot, stamp, kind, parent, chance.choice(NAMES), "")
+            items.append((dot, kind))
+        else:
+            item, kind = chance.choice(items)
+            writes = [deed[1] for deed in deeds if deed[0] == "write" and deed[3] == item]
+            covers = tuple(sorted({chance.choice(writes) for _ in writes[:2]}))
+            if kind == "file" and chance.random() < 0.7:
+                text = "once upon a time"[: chance.randint(5, 16)] + chance.choice(("", "x", " and more", "!" * 9))
+                deed = ("write", dot, stamp, item, text, covers)
+            elif chance.random() < 0.7:
+                deed = ("put", dot, stamp, item, parent, chance.choice(NAMES))
+            else:
+                deed = ("gone", dot, stamp, item, covers)
+        deeds.append(deed)
+        numbers[life], stamps[life] = dot[1] + 1, stamp
+    return tuple(sorted(deeds, key=lambda deed: deed[1]))
+
+
 def shuffled(chance, heard):
     """The DEEDS in any sequence in which those of each LIFE go up."""
     lives = {}
@@ -60,7 +90,7 @@ def shuffled(chance, heard):
     return found
 
 
-def part(chance, heard):
+def part(chance, heard, most=6):
     """A HEARD of some of the DEEDS: of each LIFE the first ones."""
-    cuts = {deed[1][0]: chance.randint(0, 6) for deed in heard}
+    cuts = {deed[1][0]: chance.randint(0, most) for deed in heard}
     return tuple(deed for deed in heard if deed[1][1] < cuts[deed[1][0]])

@@ -1,4 +1,4 @@
-"""The examples of the document, section by section, as written there."""
+"""The examples of the document, section by section, as written there; the later ones in more_examples.py."""
 
 SECTIONS = {}
 

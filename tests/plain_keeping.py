@@ -360,34 +360,43 @@ def read_line(text):
     return found if plain_forms.booked(found) else None
 
 
+def read_on(told, text):
+    """What is told behind one line more; None if it cannot stand there."""
+    heard, known, shift = told
+    booked = read_line(text)
+    if booked is None:
+        return None
+    nodes = [row[0] for row in known]
+    deed = booked[-1] if booked[0] in ("heard", "told") else None
+    if deed is not None:
+        if deed[1] in [one[1] for one in heard] or not plain_forms.heard(heard_with(heard, deed)):
+            return None
+        heard = heard_with(heard, deed)
+    if booked[0] in ("told", "rows"):
+        if not all(row is not None or node in nodes for node, row in booked[1]):
+            return None
+        known = behind(known, booked[1])
+    if booked[0] == "shift":
+        if shift is not None or booked[1][0] not in nodes:
+            return None
+        shift = booked[1]
+    if booked[0] in ("done", "not"):
+        if shift is None or shift[0] != booked[1]:
+            return None
+        if booked[0] == "done":
+            known = behind(known, ((shift[0], shift),))
+        shift = None
+    return (heard, known, shift)
+
+
 def read_book(disc):
     """As the document tells it, or the number of the line that cannot stand."""
-    heard, known, shift = (), (), None
+    told = ((), (), None)
     for number, text in enumerate(disc.book, 1):
-        booked = read_line(text)
-        if booked is None:
+        told = read_on(told, text)
+        if told is None:
             return number
-        nodes = [row[0] for row in known]
-        deed = booked[-1] if booked[0] in ("heard", "told") else None
-        if deed is not None:
-            if deed[1] in [one[1] for one in heard] or not plain_forms.heard(heard_with(heard, deed)):
-                return number
-            heard = heard_with(heard, deed)
-        if booked[0] in ("told", "rows"):
-            if not all(row is not None or node in nodes for node, row in booked[1]):
-                return number
-            known = behind(known, booked[1])
-        if booked[0] == "shift":
-            if shift is not None or booked[1][0] not in nodes:
-                return number
-            shift = booked[1]
-        if booked[0] in ("done", "not"):
-            if shift is None or shift[0] != booked[1]:
-                return number
-            if booked[0] == "done":
-                known = behind(known, ((shift[0], shift),))
-            shift = None
-    return (heard, known, shift)
+    return told
 
 
 def mending(disc):

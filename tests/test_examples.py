@@ -4,7 +4,9 @@ import doctest
 import pathlib
 import unittest
 
-from tests.examples import SECTIONS
+from tests import examples, more_examples
+
+SECTIONS = {**examples.SECTIONS, **more_examples.SECTIONS}
 
 README = pathlib.Path(__file__).parent.parent / "README.md"
 
@@ -21,7 +23,7 @@ class Examples(unittest.TestCase):
         self.shows("readme", README.read_text("ascii").replace("```", ""))
 
     def test_sections(self):
-        self.assertEqual(sorted(SECTIONS), [4, 5, 6, 7, 8, 9, 10, 11, 12])
+        self.assertEqual(sorted(SECTIONS), list(range(4, 19)))
         for number in SECTIONS:
             with self.subTest(section=number):
                 self.shows(f"section {number}", SECTIONS[number])

@@ -3,7 +3,27 @@ import inspect
 import pathlib
 import unittest
 
-from allonetree import books, deeds, discs, errors, hearing, living, looking, moving, pictures, placing, telling
+from allonetree import (
+    benches,
+    books,
+    deeds,
+    desk,
+    discs,
+    errors,
+    hearing,
+    history,
+    journals,
+    keeping,
+    lettering,
+    living,
+    looking,
+    mapping,
+    moving,
+    pictures,
+    placing,
+    telling,
+    worlds,
+)
 from allonetree.discs import Disc
 
 FOLDER = pathlib.Path(inspect.getfile(errors)).parent
@@ -13,7 +33,7 @@ def parameters(call):
     return tuple(inspect.signature(call).parameters)
 
 
-# Each function and class of the interface that was built so far, by the file that has it.
+# Each function and class of the interface, but the errors, by the file that has it.
 PARAMETERS = {
     discs: {"Disc": ()},
     deeds: {"deed_text": ("deed",), "read_deed": ("text",)},
@@ -36,6 +56,26 @@ PARAMETERS = {
         "shows": ("heard", "key"),
     },
     books: {"book_line": ("booked",), "mending": ("disc",), "read_book": ("disc",)},
+    keeping: {"Keeper": ("disc", "life")},
+    mapping: {
+        "built": ("old", "value"),
+        "cost": ("value",),
+        "map_of": ("old", "new"),
+        "map_text": ("value",),
+        "read_map": ("text",),
+        "shows_map_of": ("old", "new", "value"),
+    },
+    lettering: {"answers": ("heard", "letter", "most"), "ask_letter": ("heard",), "Gate": ("heard",)},
+    worlds: {"World": ("names",)},
+    history: {
+        "past": ("heard", "stamp"),
+        "path_of": ("heard", "item"),
+        "restored": ("heard", "dot"),
+        "versions": ("heard", "item"),
+    },
+    benches: {"Bench": ("names",)},
+    journals: {"journal": ("bench",), "read_journal": ("text",)},
+    desk: {"Desk": ("text",)},
 }
 
 METHODS = {
@@ -52,13 +92,70 @@ METHODS = {
     },
     moving.Moves: {"added": ("deed",)},
     looking.Look: {"step": ()},
+    keeping.Keeper: {
+        "look": (),
+        "tell": (),
+        "hear": (),
+        "place": (),
+        "ask": (),
+        "answer": ("letter", "most"),
+        "take": ("letter",),
+        "rests": (),
+    },
+    lettering.Gate: {"take": ("letter",), "hear": ("deed",)},
+    worlds.World: {
+        "program": ("name", "act"),
+        "start": ("name", "life"),
+        "fall": ("name",),
+        "step": ("name", "word"),
+        "ask": ("name",),
+        "deliver": ("number",),
+        "save": ("name",),
+        "back": ("name",),
+        "disc_of": ("name",),
+        "keeper_of": ("name",),
+        "rows": ("name",),
+        "alike": (),
+        "copy": (),
+        "round": (),
+        "rest": (),
+    },
+    benches.Bench: {
+        "world": (),
+        "do": ("line",),
+        "undo": (),
+        "redo": (),
+        "tried": ("look", "keep"),
+        "keep": (),
+        "copy": (),
+    },
+    desk.Desk: {"say": ("line",)},
 }
 
-TOLD = {discs.Disc: ("next", "book"), moving.Moves: ("places", "many"), looking.Look: ("standing", "read")}
+TOLD = {
+    discs.Disc: ("next", "book"),
+    moving.Moves: ("places", "many"),
+    looking.Look: ("standing", "read"),
+    keeping.Keeper: ("disc", "life", "heard", "known", "standing", "doing", "stuck", "waiting"),
+    lettering.Gate: ("heard", "waiting"),
+    worlds.World: ("names", "letters"),
+    benches.Bench: ("names", "deeds"),
+    desk.Desk: ("bench",),
+}
+
+GIVEN = {
+    looking.Look: (Disc(),),
+    keeping.Keeper: (Disc(), 1),
+    lettering.Gate: ((),),
+    worlds.World: (("a",),),
+    benches.Bench: (("a",),),
+    desk.Desk: ("names a\ndeeds",),
+}
 
 
 def made(kind):
-    return looking.Look(Disc()) if kind is looking.Look else kind()
+    given = GIVEN.get(kind, ())
+    return kind(*[one.copy() if isinstance(one, Disc) else one for one in given])
 
 
 class Interface(unittest.TestCase):
@@ -77,12 +174,24 @@ class Interface(unittest.TestCase):
             for name in told:
                 self.assertIn(name, vars(kind))
                 self.assertEqual(parameters(getattr(made(kind), name)), told[name], name)
-        self.assertIn("__eq__", vars(Disc))
+        for kind, names in ((Disc, ("__eq__",)), (benches.Bench, ("__eq__", "__len__"))):
+            for name in names:
+                self.assertIn(name, vars(kind))
 
     def test_what_is_told_of_an_object_is_there_when_it_is_created(self):
         for kind, names in TOLD.items():
             for name in names:
                 self.assertTrue(hasattr(made(kind), name), name)
+
+    def test_what_stands_behind_a_star(self):
+        tried = inspect.signature(benches.Bench.tried).parameters["keep"]
+        self.assertEqual((tried.kind, tried.default), (tried.KEYWORD_ONLY, False))
+
+    def test_functions_stand_in_the_text_of_their_file(self):
+        for module, told in PARAMETERS.items():
+            tree = ast.parse(pathlib.Path(module.__file__).read_text("ascii"))
+            defined = [node.name for node in tree.body if isinstance(node, (ast.FunctionDef, ast.ClassDef))]
+            self.assertLessEqual(set(told), set(defined), module.__name__)
 
     def test_arguments_by_name(self):
         disc = Disc()

@@ -1,8 +1,13 @@
 """Values of all kinds, and what a call raises, for all tests."""
 
+from allonetree.benches import Bench
+from allonetree.desk import Desk
 from allonetree.discs import Disc
+from allonetree.keeping import Keeper
+from allonetree.lettering import Gate
 from allonetree.looking import Look
 from allonetree.moving import Moves
+from allonetree.worlds import World
 
 
 def nested(deep):
@@ -52,6 +57,15 @@ def any_values():
         [Disc(), (None, {})],
         Moves(),
         (Moves(), Look(Disc())),
+        Look(Disc()),
+        Gate(()),
+        Keeper(Disc(), 1),
+        World(("a",)),
+        [World(("a", "b"))],
+        Bench(("a",)),
+        ("folder", Bench(("a", "b"))),
+        Desk("names a\ndeeds"),
+        {"desk": (Desk("names a\ndeeds"), None)},
         nested(60),
         [nested(59)],
     ]
