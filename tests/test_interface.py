@@ -240,6 +240,27 @@ class Interface(unittest.TestCase):
         self.assertIsNone(books.mending(disc=disc))
 
 
+    def test_the_rest_by_name(self):
+        born, write = ("born", (1, 0), 1, "file", None, "a", ""), ("write", (1, 1), 2, (1, 0), "x", ())
+        heard = (born, write)
+        self.assertEqual(history.versions(item=(1, 0), heard=heard), (((1, 1), "x", "shown"),))
+        self.assertEqual(history.path_of(item=(1, 0), heard=heard), "a")
+        self.assertEqual(history.past(stamp=1, heard=heard), (born,))
+        self.assertIsNone(history.restored(dot=(1, 1), heard=heard))
+        self.assertEqual(lettering.ask_letter(heard=heard), "ask 1:2")
+        letters = lettering.answers(most=20, letter="ask", heard=heard)
+        self.assertEqual(lettering.Gate(heard=()).take(letter=letters[0]), heard)
+        keeper = keeping.Keeper(life=2, disc=Disc())
+        self.assertEqual(keeper.take(letter=letters[0]), 2)
+        self.assertEqual(keeper.answer(most=1, letter="ask"), ())
+        bench = benches.Bench(names=("a",))
+        self.assertEqual(bench.do(line="rest"), "1")
+        self.assertEqual(bench.tried(keep=True, look=len), 0)
+        self.assertEqual(journals.journal(bench=bench), "names a\ndeeds\nrest")
+        self.assertTrue(journals.read_journal(text="names a\ndeeds\nrest") == bench)
+        self.assertEqual(desk.Desk(text="names a\ndeeds").say(line="rows a"), "none")
+
+
 class Form(unittest.TestCase):
     """The sizes and signs that the package's files may have."""
 
